@@ -79,6 +79,16 @@ def bound_by(node):
     return [node.name] if isinstance(node, (ast.FunctionDef, ast.ClassDef)) else []
 
 
+def faults_of_locals(tree):
+    """Parameters and locals that are called like a class or an import of their file."""
+    outer = [name for node in tree.body if isinstance(node, (ast.ImportFrom, ast.ClassDef)) for name in bound_by(node)]
+    faults = []
+    for node in ast.walk(tree):
+        if isinstance(node, ast.arg) or isinstance(node, ast.Name) and isinstance(node.ctx, ast.Store):
+            faults.extend(f"L15 local {name}" for name in names_in(node) if name in outer)
+    return faults
+
+
 def names_in(node):
     """The names that a node gives a meaning, and those that it reads."""
     if isinstance(node, ast.Name):
@@ -162,7 +172,7 @@ def methods_in(tree):
 
 def faults(text):
     tree = ast.parse(text)
-    found = faults_of_text(text) + faults_of_top(tree) + faults_of_methods(tree, methods_in(tree))
+    found = faults_of_text(text) + faults_of_top(tree) + faults_of_methods(tree, methods_in(tree)) + faults_of_locals(tree)
     for node in ast.walk(tree):
         found.extend(faults_of_node(node))
     return found
@@ -203,6 +213,8 @@ class Language(unittest.TestCase):
             "def f(a):\n    return a.format()\n", "def f(a):\n    return chr(a)\n", "# the type\nx = 1\n", "x = '%'\n",
             "def _f(a):\n    return a\n", "def f(a):\n    return (b for b in a)\n", "x = 1\nx = 2\n", "print(1)\n",
             "def f(a, b):\n    return a is b\n", "def f(a):\n    b = c = a\n    return b\n", "x = '\u00e9'\n",
+            "from truthgrades.errors import NoTable\ndef f(NoTable):\n    return NoTable\n",
+            "from truthgrades.gradings import grade\ndef f(a):\n    return [grade for grade in a]\n",
             "def f(a):\n" + "    a = a\n" * 40, "def f(a):\n    return [c for b in a for c in b]\n",
         ):
             with self.subTest(text=text):

@@ -1,23 +1,7 @@
 import unittest
 
-from tests.helper import OTHER_KINDS, GradeCase, shown
-from truthgrades.sayings import is_saying, letters_of, said_by, words_of
-
-
-def nested(tuples, inner="p"):
-    """A saying with so many tuples within one another around an inner one."""
-    saying = inner
-    for step in range(tuples):
-        saying = ("not", saying)
-    return saying
-
-
-def joined(letters):
-    """A saying of the letters with two parts in each tuple, each half as long."""
-    if len(letters) == 1:
-        return letters
-    middle = len(letters) // 2
-    return ("and", joined(letters[:middle]), joined(letters[middle:]))
+from tests.helper import OTHER_KINDS, GradeCase, joined, nested, shown
+from truthgrades.sayings import is_saying, letters_of, letters_of_all, needed_lines, said_by, words_of, written_parts
 
 
 class IsSaying(GradeCase):
@@ -108,6 +92,18 @@ class Words(GradeCase):
         self.tells(21, words_of, nested(20))
         self.tells(40, words_of, ("not", joined("pqrstpqrstpqrstpqrst")))
 
+    def test_letters_of_several(self):
+        self.tells([], letters_of_all, [])
+        self.tells([], letters_of_all, [("true",), ("not", ("true",))])
+        self.tells(["a", "p", "q"], letters_of_all, ["q", ("and", "p", "q"), ("not", ("not", "a"))])
+
+    def test_parts_from_the_left(self):
+        self.tells(["p"], written_parts, "p")
+        self.tells([("true",)], written_parts, ("true",))
+        left, right = ("or", "q", "p"), ("not", ("true",))
+        whole = ("and", left, right)
+        self.tells([whole, left, "q", "p", right, ("true",)], written_parts, whole)
+
     def test_somewhat_beyond_the_bounds(self):
         self.tells(["p"], letters_of, nested(90))
         self.tells(91, words_of, nested(90))
@@ -151,6 +147,14 @@ class Lines(GradeCase):
 
     def test_many_lines(self):
         self.tells(1001, said_by, ("p",) + tuple(("not", number) for number in range(1000)))
+
+    def test_needed_lines_from_the_left(self):
+        self.tells([0], needed_lines, ("p",))
+        self.tells([2], needed_lines, ("p", ("not", 0), "q"))
+        self.tells([3, 2, 0, 1], needed_lines, ("p", "q", ("not", 0), ("and", 2, 1)))
+        self.tells([4, 1, 3, 0], needed_lines, ("p", "q", "r", ("or", 1, 0), ("and", 1, 3)))
+        doubling = ("p",) + tuple(("and", number, number) for number in range(200))
+        self.tells(list(range(200, -1, -1)), needed_lines, doubling)
 
 
 if __name__ == "__main__":

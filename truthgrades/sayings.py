@@ -35,27 +35,33 @@ def has_name_and_parts(thing):
 
 def letters_of(S):
     """A list of a saying's letters, rising, each once."""
-    return sorted(set([word for word in written_words(S) if is_letter(word)]))
+    return letters_of_all([S])
+
+
+def letters_of_all(sayings):
+    """A list of the letters that several sayings have, rising, each once."""
+    letters = []
+    for saying in sayings:
+        letters.extend([part for part in written_parts(saying) if is_letter(part)])
+    return sorted(set(letters))
 
 
 def words_of(S):
     """How many letters and names a saying has, each as often as it stands there."""
-    return len(written_words(S))
+    return len(written_parts(S))
 
 
-def written_words(S):
-    """A list of a saying's letters and names from the left, as it is written."""
-    words = []
+def written_parts(S):
+    """A list of the sayings within a saying, itself the first, from the left as they are written."""
+    parts = []
     waiting = [S]
     while len(waiting) > 0:
         part = waiting.pop()
-        if is_letter(part):
-            words.append(part)
-        else:
-            words.append(part[0])
+        parts.append(part)
+        if not is_letter(part):
             # The last one comes out first, so the left part goes in last.
             waiting.extend(list(reversed(part[1:])))
-    return words
+    return parts
 
 
 def said_by(lines):
@@ -70,3 +76,19 @@ def said_by(lines):
         else:
             counts.append(1 + sum([counts[number] for number in line[1:]]))
     return counts[-1]
+
+
+def needed_lines(lines):
+    """The numbers of the lines that the last one rests on, its own the first, each once.
+
+    They stand from the left as what the lines say is written out.
+    """
+    needed = {}
+    waiting = [len(lines) - 1]
+    while len(waiting) > 0:
+        number = waiting.pop()
+        if number not in needed:
+            needed[number] = True
+            if not is_letter(lines[number]):
+                waiting.extend(list(reversed(lines[number][1:])))
+    return list(needed)
