@@ -23,13 +23,26 @@ class GradeCase(unittest.TestCase):
 
     def refuses(self, error, function, *things):
         """Refused with this very class; tells what was raised."""
-        before = [repr(thing) for thing in things]
+        before = [shown(thing) for thing in things]
         with self.assertRaises(ValueError) as caught:
             function(*things)
         self.assertIs(type(caught.exception), error)
         self.assertIsInstance(caught.exception, GradeError)
-        self.assertEqual([repr(thing) for thing in things], before)
+        self.assertEqual([shown(thing) for thing in things], before)
         return caught.exception
+
+    def is_new(self, told, *things):
+        """Nothing that holds something is told that was handed in."""
+        handed = [id(part) for thing in things for part in holders(thing)]
+        self.assertEqual([part for part in holders(told) if id(part) in handed], [])
+
+
+def holders(thing):
+    """All tuples, lists and dicts within a thing that hold something, itself among them."""
+    if not isinstance(thing, (tuple, list, dict)) or not thing:
+        return []
+    parts = [part for pair in thing.items() for part in pair] if isinstance(thing, dict) else thing
+    return [thing] + [inner for part in parts for inner in holders(part)]
 
 
 class Other:
@@ -85,6 +98,19 @@ def plain_grade(table, saying, grading):
     if isinstance(saying, str):
         return grading[saying]
     return plain_cell(table, saying[0], [plain_grade(table, part, grading) for part in saying[1:]])
+
+
+def built(many, is_wished, shapes, cell):
+    """A table of many grades, its cells by a function of the connective's name and a tuple of grades."""
+    connectives = []
+    for name, places in shapes:
+        at = itertools.product(range(many), repeat=places)
+        connectives.append((name, places, tuple(cell(name, grades) for grades in at)))
+    return (many, tuple(one for one in range(many) if is_wished(one)), tuple(connectives))
+
+
+def shapes_of(table):
+    return tuple((name, places) for name, places, cells in table[2])
 
 
 def plain_letters(saying):

@@ -3,7 +3,7 @@ from fractions import Fraction
 
 from tests.helper import GradeCase
 from truthgrades.errors import NoFraction
-from truthgrades.fractions import below, fraction, minus, over, plus, times
+from truthgrades.fractions import below, fraction, minus, over, plus, sum_of_products, times
 
 TALL = 10 ** 99
 SMALL = [(top, bottom) for bottom in range(1, 8) for top in range(-8, 9) if Fraction(top, bottom).denominator == bottom]
@@ -116,6 +116,12 @@ class Reckoning(GradeCase):
                 self.same(below(a, b), left < right)
                 if b != (0, 1):
                     self.same(over(a, b), pair(left / right))
+
+    def test_sum_of_products(self):
+        self.tells((0, 1), sum_of_products, (), ())
+        self.tells((1, 6), sum_of_products, ((1, 2),), ((1, 3),))
+        self.tells((-1, 3), sum_of_products, ((1, 2), (2, 1), (0, 1)), ((1, 3), (-1, 4), (5, 1)))
+        self.tells((0, 1), sum_of_products, ((TALL, 1), (-1, 1)), ((1, TALL), (1, 1)))
 
     def test_told_fractions_may_be_handed_in_again(self):
         # 49 products of 100 figures: more figures than Python writes out.

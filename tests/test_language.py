@@ -204,6 +204,17 @@ class Language(unittest.TestCase):
             for name in free:
                 del drawn[name]
 
+    def test_no_name_is_a_method_and_a_value(self):
+        methods, values = set(), set()
+        for path in self.files():
+            tree = ast.parse(path.read_text(encoding="utf-8"))
+            methods.update(methods_in(tree))
+            values.update(node.attr for node in ast.walk(tree) if isinstance(node, ast.Attribute)
+                          and isinstance(node.ctx, ast.Store))
+        self.assertIn("name", values)
+        self.assertEqual(methods & values, set())
+        self.assertEqual(values & {"items", "keys", "values", "pop", "update", "append", "clear", "extend", "args"}, set())
+
     def test_faults_are_seen(self):
         for text in (
             "import math\n", "from truthgrades.errors import *\n", "from .errors import NoTable\n", "x = 1.0\n",

@@ -9,7 +9,7 @@ def follows(T, premises, S):
     """("follows", tree), or ("barred", grading); NoName at the first such name, the premises first."""
     sayings = list(premises) + [S]
     for saying in sayings:
-        check_names(T, written_parts(saying))
+        check_names(cells_by_name(T), written_parts(saying))
     return answer_by(T, premises, S, letters_of_all(sayings), {})
 
 

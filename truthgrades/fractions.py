@@ -49,3 +49,11 @@ def over(a, b):
 def below(a, b):
     """Whether the first fraction is less than the second one."""
     return a[0] * b[1] < b[0] * a[1]
+
+
+def sum_of_products(ones, others):
+    """The sum of the products of two rows of fractions, place by place."""
+    total = (0, 1)
+    for a, b in zip(ones, others):
+        total = plus(total, times(a, b))
+    return total

@@ -8,9 +8,10 @@ from truthgrades.sayings import written_parts
 def grade(T, S, grading):
     """The grade of a saying by a table at a grading; NoName, then NoLetter, at the first one from the left."""
     parts = written_parts(S)
-    check_names(T, parts)
+    cells = cells_by_name(T)
+    check_names(cells, parts)
     check_letters(parts, grading)
-    return grade_within(cells_by_name(T), T[0], S, grading)
+    return grade_within(cells, T[0], S, grading)
 
 
 def grade_within(cells, many, S, grading):
@@ -46,11 +47,10 @@ def cells_by_name(H):
     return dict([((name, places), cells) for name, places, cells in H[2]])
 
 
-def check_names(H, parts):
-    """NoName at the first part (or line) whose name is no connective's with so many places."""
-    cells = cells_by_name(H)
+def check_names(shapes, parts):
+    """NoName at the first part (or line) whose name and number of places are none of these shapes."""
     for part in parts:
-        if not is_letter(part) and (part[0], len(part) - 1) not in cells:
+        if not is_letter(part) and (part[0], len(part) - 1) not in shapes:
             raise NoName(part[0])
 
 

@@ -3,12 +3,14 @@
 from truthgrades.gradings import cells_by_name, check_names
 from truthgrades.kinds import is_letter
 from truthgrades.sayings import written_parts
+from truthgrades.tables import next_places
 
 
 def possible(H, S, sets):
     """The possible grades of a saying, a rising tuple; NoName at the first such name from the left."""
-    check_names(H, written_parts(S))
-    return tuple(possible_within(cells_by_name(H), H[0], S, sets))
+    cells = cells_by_name(H)
+    check_names(cells, written_parts(S))
+    return tuple(possible_within(cells, H[0], S, sets))
 
 
 def possible_within(cells, many, S, sets):
@@ -21,11 +23,3 @@ def possible_within(cells, many, S, sets):
     given = cells[(S[0], len(S) - 1)]
     reached = [given[place] for place in places]
     return list(range(many)) if None in reached else sorted(set(reached))
-
-
-def next_places(places, many, grades):
-    """The places of cells to which some places lead on by each of some grades of one part more."""
-    reached = []
-    for place in places:
-        reached.extend([place * many + one for one in grades])
-    return reached

@@ -85,9 +85,9 @@ def column_of(T, columns, lines):
     """The column that lines have; NoName, then NoLetter, as of the saying that they say."""
     given = dict(columns)
     written = [lines[number] for number in needed_lines(lines)]
-    check_names(T, written)
-    check_letters(written, given)
     cells = cells_by_name(T)
+    check_names(cells, written)
+    check_letters(written, given)
     ahead = []
     for line in needed_alone(lines):
         if is_letter(line):

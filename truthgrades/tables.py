@@ -75,3 +75,33 @@ def are_cells(thing, many, length):
     if not isinstance(thing, tuple) or len(thing) != length:
         return False
     return all([cell is None or is_grade(cell, many) for cell in thing])
+
+
+def cell_places(many, grades, places):
+    """The places of a connective's cells, in order, at some of many grades in each of its places."""
+    reached = [0]
+    for step in range(places):
+        reached = next_places(reached, many, grades)
+    return reached
+
+
+def next_places(places, many, grades):
+    """The places of cells to which some places lead on by each of some grades of one part more."""
+    reached = []
+    for place in places:
+        reached.extend([place * many + one for one in grades])
+    return reached
+
+
+def remade(T, olds, news):
+    """A table whose grades stand for grades of another one, its connectives in their order.
+
+    olds is a list of the grade of T for which each new grade stands, news gives for each grade
+    to which connectives lead from these the new one.
+    """
+    connectives = []
+    for name, places, cells in T[2]:
+        reached = [cells[place] for place in cell_places(T[0], olds, places)]
+        connectives.append((name, places, tuple([news[old] for old in reached])))
+    wished = [one for one, old in enumerate(olds) if old in T[1]]
+    return (len(olds), tuple(wished), tuple(connectives))
